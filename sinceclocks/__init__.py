@@ -1,0 +1,1 @@
+"""Machines that ask only how long ago each letter came last, over rows of letters with exact times."""
