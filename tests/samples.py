@@ -72,3 +72,8 @@ def spoiled(thing):
 def shortened(thing, ways):
     """The thing with the last item gone at one of these places at a time."""
     return [with_part(thing, way, part_at(thing, way)[:-1]) for way in ways]
+
+
+def filled(thing):
+    """The thing with anything at one place at a time; now and then it is still what it was."""
+    return [with_part(thing, way, part) for way in places(thing) for part in anything()]

@@ -5,7 +5,7 @@ import unittest
 from fractions import Fraction
 from itertools import product
 
-from samples import LOOK, ROW, anything, shortened, spoiled
+from samples import LOOK, ROW, anything, filled, shortened, spoiled
 from words import all_agos, look_by_words, looks_by_words
 
 from sinceclocks.errors import NoBound, NoLetter, NoLetters, NoLook, NoRow
@@ -177,6 +177,12 @@ class LaterTest(unittest.TestCase):
         for thing in shortened(LOOK, [(0,), (1,), (3,)]):
             with self.assertRaises(NoLook):
                 later(thing, 2)
+
+    def test_anything_at_each_place(self):
+        for thing in filled(LOOK):
+            told = answer(later, thing, 2)
+            self.assertEqual(told is not None, answer(came, thing, "abcd", "a") is not None)
+            self.assertIn(told and told[0], [None, thing])
 
     def test_no_look_for_a_great_bound(self):
         for thing in [((0, 2), None), None, [(0, 0), None], ((10 ** 29 + 2, 0), None), ((10 ** 29, 1), None)]:

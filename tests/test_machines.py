@@ -3,7 +3,7 @@
 import random
 import unittest
 
-from samples import FINE, ROW, SOON, WIDE, anything, shortened, spoiled
+from samples import FINE, ROW, SOON, WIDE, anything, filled, shortened, spoiled
 from words import after_by_words
 
 from sinceclocks.errors import NoMachine, NoRow
@@ -63,13 +63,13 @@ class IsMachineTest(unittest.TestCase):
     def test_states(self):
         for many in [0, -1, True, False, None, "1", (1,)]:
             self.assertIs(is_machine(("a", many, (), (), ())), False)
-        for states in [(2,), (-1,), (1, 0), (0, 0), (0, 1, 1), (0, 2), [0], (False,), (0, True), (None,), None, 0, "0"]:
+        for states in [(2,), (3,), (10 ** 29,), (-1,), (1, 0), (0, 0), (0, 1, 1), (0, 2), [0], (False,), (0, True), (None,), None, 0, "0"]:
             with self.subTest(states):
                 self.assertIs(is_machine(("a", 2, states, (), ())), False)
                 self.assertIs(is_machine(("a", 2, (), states, ())), False)
 
     def test_steps(self):
-        for step in [(2, "a", (), 0), (0, "a", (), 2), (-1, "a", (), 0), (0, "b", (), 0), (0, "", (), 0),
+        for step in [(2, "a", (), 0), (0, "a", (), 2), (5, "a", (), 0), (0, "a", (), 7), (-1, "a", (), 0), (0, "b", (), 0), (0, "", (), 0),
                      (0, "aa", (), 0), (0, "a", [], 0), (0, "a", None, 0), (0, "a", ()), (0, "a", (), 0, 0), (),
                      [0, "a", (), 0], (False, "a", (), 0), (0, "a", (), True), (0, "a", (None,), 0), None, "a", 0]:
             with self.subTest(step):
@@ -104,6 +104,15 @@ class IsMachineTest(unittest.TestCase):
             self.assertIs(is_machine(("a", 1, (), (), thing)), thing == () and isinstance(thing, tuple))
             self.assertIs(is_machine(("a", 1, (), (), (thing,))), False)
             self.assertIs(is_machine(("a", 1, (), (), ((0, "a", (thing,), 0),))), False)
+
+    def test_anything_at_each_place(self):
+        for thing in filled(WIDE):
+            if is_machine(thing) is True:
+                self.assertIsInstance(after(thing, ROW), list)
+            else:
+                self.assertIs(is_machine(thing), False)
+                with self.assertRaises(NoMachine):
+                    after(thing, ROW)
 
     def test_by_name(self):
         self.assertIs(is_machine(thing=SOON), True)

@@ -2,7 +2,7 @@
 
 import unittest
 
-from samples import FINE, ROW, anything, shortened, spoiled, with_part
+from samples import FINE, ROW, anything, filled, shortened, spoiled, with_part
 from words import since_by_words
 
 from sinceclocks.errors import NoLetter, NoNumber, NoRow
@@ -42,6 +42,10 @@ class IsRowTest(unittest.TestCase):
             for thing in spoiled(row) + shortened(row, [(), (1, 0), (1, 1), (1, 2)]):
                 with self.subTest(thing):
                     self.assertIs(is_row(thing), False)
+
+    def test_anything_at_each_place(self):
+        for thing in filled(ROW):
+            self.assertIs(is_row(thing), thing == (10, ()) and isinstance(thing[1], tuple))
 
     def test_true_and_false_are_no_numbers(self):
         self.assertIs(is_row((True, ())), False)
