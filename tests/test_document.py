@@ -4,7 +4,7 @@ import doctest
 import inspect
 import unittest
 
-from sinceclocks import looks, machines, rows
+from sinceclocks import comparing, counting, joining, looks, machines, rows, watching
 
 EXAMPLES = '''
 >>> from sinceclocks.machines import after, is_machine, lets
@@ -20,6 +20,38 @@ EXAMPLES = '''
 [((3, 0), (0, 0), (1, 1), None), ((3, 0), (0, 0), (0, 0), None), [((0, 0), None), ((0, 1), None), ((1, 0), None), ((2, 0), None)]]
 >>> came(((1, 2), (0, 1), (0, 2)), "ab", "a")
 ((1, 1), (0, 0), (0, 1))
+
+>>> from sinceclocks.comparing import compared, first_row, is_table, parted, within
+>>> from sinceclocks.machines import lets
+>>> soon = ("ab", 2, (0,), (1,), ((0, "a", (), 0), (0, "b", (("a", (0, False), (2, True)),), 1)))
+>>> late = ("ab", 2, (0,), (1,), ((0, "a", (), 0), (0, "b", (("a", (0, False), (2, False)),), 1)))
+>>> row = within(late, soon)
+>>> [within(soon, late), len(row[1]), lets(late, row), lets(soon, row), len(first_row(soon)[1]), compared(soon, late)[0], is_table(soon, late, [])]
+[None, 2, True, False, 2, 'within', False]
+
+>>> from sinceclocks.joining import both, either, is_single, single, turned
+>>> from sinceclocks.machines import lets
+>>> two = ("a", 1, (0,), (0,), ((0, "a", (("", (0, False), (1, False)),), 0), (0, "a", (("", (1, False), None),), 0)))
+>>> once = ("a", 1, (0,), (0,), ((0, "a", (("a", None, None),), 0),))
+>>> row = (1, (("a", 0), ("a", 1)))
+>>> [is_single(two), lets(single(two), row), lets(turned(two), row), lets(both(two, once), row), lets(either(two, once), row)]
+[False, True, False, False, True]
+
+>>> from sinceclocks.counting import how_many
+>>> spaced = ("a", 1, (0,), (0,), ((0, "a", (("a", None, None),), 0), (0, "a", (("a", (2, False), None),), 0)))
+>>> [how_many(spaced, 2, 3), how_many(spaced, 0, 3)]
+[3, 1]
+
+>>> from sinceclocks.watching import decided, verdict
+>>> early = ("a", 1, (0,), (0,), ((0, "a", (("", (0, False), (1, False)),), 0),))
+>>> [verdict(early, (1, ())), verdict(early, (2, (("a", 3),))), decided(early, (2, (("a", 1), ("a", 3))))]
+['open', 'no', 2]
+
+>>> from sinceclocks.watching import silence, windows
+>>> early = ("a", 1, (0,), (0,), ((0, "a", (("", (0, False), (1, False)),), 0),))
+>>> apart = ("a", 1, (0,), (0,), ((0, "a", (("a", None, None),), 0), (0, "a", (("a", (0, False), (1, True)),), 0), (0, "a", (("a", (1, True), None),), 0)))
+>>> [windows(early, (2, (("a", 1),)), "a"), windows(apart, (2, (("a", 1),)), "a"), silence(early, (2, (("a", 1),)))]
+[[((0, False), (1, False))], [((0, False), (2, True)), ((2, True), None)], None]
 '''
 
 INTERFACE = [
@@ -28,16 +60,24 @@ INTERFACE = [
     (machines, "lets", ["machine", "row"]),
     (looks, "look", ["row", "letters", "m"]), (looks, "later", ["look", "m"]),
     (looks, "came", ["look", "letters", "a"]),
+    (comparing, "first_row", ["machine"]), (comparing, "within", ["one", "other"]),
+    (comparing, "parted", ["one", "other"]), (comparing, "compared", ["one", "other"]),
+    (comparing, "is_table", ["one", "other", "thing"]),
+    (joining, "is_single", ["machine"]), (joining, "single", ["machine"]), (joining, "turned", ["machine"]),
+    (joining, "both", ["one", "other"]), (joining, "either", ["one", "other"]),
+    (counting, "how_many", ["machine", "n", "most"]),
+    (watching, "verdict", ["machine", "row"]), (watching, "decided", ["machine", "row"]),
+    (watching, "windows", ["machine", "row", "a"]), (watching, "silence", ["machine", "row"]),
 ]
 
 
 class DocumentTest(unittest.TestCase):
     def test_examples(self):
         examples = doctest.DocTestParser().get_doctest(EXAMPLES, {}, "DOC.md", "DOC.md", 0)
-        self.assertEqual(len(examples.examples), 9)
+        self.assertEqual(len(examples.examples), 31)
         told = []
         results = doctest.DocTestRunner(verbose=False).run(examples, out=told.append)
-        self.assertEqual((results.attempted, results.failed), (9, 0), "".join(told))
+        self.assertEqual((results.attempted, results.failed), (31, 0), "".join(told))
 
     def test_interface(self):
         for module, name, arguments in INTERFACE:

@@ -6,7 +6,7 @@ from fractions import Fraction
 from itertools import product
 
 from samples import LOOK, ROW, anything, filled, shortened, spoiled
-from words import all_agos, look_by_words, looks_by_words
+from words import agos_by_words, all_agos, look_by_words, looks_by_words
 
 from sinceclocks.errors import NoBound, NoLetter, NoLetters, NoLook, NoRow
 from sinceclocks.looks import came, later, look
@@ -14,17 +14,6 @@ from sinceclocks.looks import came, later, look
 NO_LETTERS = ["", "ba", "aa", "abb", "A", "aB", "a b", "a-", "a\n", "\n", "`", "{", None, True, False, 0, 1, -1,
               10 ** 29, [], (), ["a"], ("a",), ["a", "b"], ("a", "b"), [[]]]
 NO_BOUNDS = [-1, -(10 ** 29), None, True, False, "", "0", "1", [], (), [0], (0,), (1, 0), [[]]]
-
-
-def agos_of(row, letters):
-    """How many units ago the begin and each letter came at the moment of the last event, behind it."""
-    grain, events = row
-    now = events[-1][1] if events else 0
-    agos = [Fraction(now, grain)]
-    for x in letters:
-        times = [time for letter, time in events if letter == x]
-        agos.append(Fraction(now - times[-1], grain) if times else None)
-    return agos
 
 
 def answer(call, *arguments):
@@ -93,7 +82,7 @@ class LookTest(unittest.TestCase):
                 time += draw.randrange(grain + 3)
                 events.append((draw.choice("abcdz"), time))
             row, letters, m = (grain, tuple(events)), draw.choice(["a", "ab", "acd", "abcd"]), draw.randrange(5)
-            self.assertEqual(look(row, letters, m), look_by_words(agos_of(row, letters), m), (row, letters, m))
+            self.assertEqual(look(row, letters, m), look_by_words(agos_by_words(row, letters), m), (row, letters, m))
 
 
 class LaterTest(unittest.TestCase):
@@ -137,7 +126,7 @@ class LaterTest(unittest.TestCase):
         for count in range(6):
             for m in range(5):
                 here = look((7, row[1][:count]), "abc", m)
-                agos = agos_of((7, row[1][:count]), "abc")
+                agos = agos_by_words((7, row[1][:count]), "abc")
                 self.assertEqual(later(here, m), looks_by_words(agos, m))
 
     def test_whole_parts_above_the_bound(self):

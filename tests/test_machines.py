@@ -3,6 +3,7 @@
 import random
 import unittest
 
+from drawing import drawn_machine, drawn_row
 from samples import FINE, ROW, SOON, WIDE, anything, filled, shortened, spoiled
 from words import after_by_words
 
@@ -19,32 +20,6 @@ def limited(*limits):
 def b_behind_a(ticks, grain=2, ahead=0):
     """A row with an a, and so many ticks behind it a b."""
     return (grain, (("a", ahead), ("b", ahead + ticks)))
-
-
-def drawn_limit(draw, letters):
-    x = draw.choice(["", *letters])
-    if x != "" and draw.random() < 0.25:
-        return (x, None, None)
-    least, most = (draw.randrange(3), draw.random() < 0.5), (draw.randrange(3), draw.random() < 0.5)
-    return (x, least, draw.choice([None, most]))
-
-
-def drawn_machine(draw):
-    letters = draw.choice(["a", "ab", "ab", "bc"])
-    many = draw.randrange(1, 4)
-    steps = tuple((draw.randrange(many), draw.choice(letters),
-                   tuple(drawn_limit(draw, letters) for _ in range(draw.choice([0, 1, 1, 2, 3]))), draw.randrange(many))
-                  for _ in range(draw.randrange(20)))
-    some = [tuple(state for state in range(many) if draw.random() < 0.6) for _ in range(2)]
-    return (letters, many, some[0], some[1], steps)
-
-
-def drawn_row(draw):
-    grain, time, events = draw.randrange(1, 4), 0, []
-    for _ in range(draw.randrange(7)):
-        time += draw.randrange(grain * 2 + 2)
-        events.append((draw.choice("aabbc"), time))
-    return (grain, tuple(events))
 
 
 class IsMachineTest(unittest.TestCase):
