@@ -62,8 +62,8 @@ def limit_of(x, low, high, last):
     """The limit that holds for x at the spots from low to high, which are NOT_COME alone or others alone."""
     if high == NOT_COME:
         return (x, None, None)
-    most = None if high == last else ((high + 1) // 2, high & 1 == 1)
-    return (x, (low // 2, low & 1 == 1), most)
+    most = None if high == last else ((high + 1) // 2, high % 2 == 1)
+    return (x, (low // 2, low % 2 == 1), most)
 
 
 def cells(arrows, names, last):

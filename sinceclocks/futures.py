@@ -33,21 +33,15 @@ class Futures:
         return not (self.can_fail(states, here) if let else self.can_let(states, here))
 
     def place(self, row):
-        """The states behind the row, and the look there."""
+        """The states behind the row, none if some event has another letter, and the look there."""
         return tuple(after(self.machine, row)), look(row, self.machine[0], self.m)
 
     def behind(self, states, moment, a):
         """The states and the look behind the letter a of the machine that comes at the moment."""
         return self.letting.one.go(states, moment, a), came(moment, self.machine[0], a)
 
-    def has_letters_of(self, row):
-        """Whether all events of the row have letters of the machine."""
-        return all([a in self.machine[0] for a, _ in row[1]])
-
     def verdict(self, row):
         """The verdict of the row."""
-        if not self.has_letters_of(row):
-            return "no"
         states, here = self.place(row)
         if not self.can_let(states, here):
             return "no"

@@ -8,7 +8,7 @@ from sinceclocks.steps import Steps, greatest_number, joint_letters
 class Pair:
     """The places of two machines, states of one beside states of other, and where letters lead from them.
 
-    A fault is a place where one lets the row and other does not. Places where one is in no state are left out.
+    A fault is a place where one lets the row and other does not. Letters that lead one nowhere lead to no place.
     If apart is True, the states of one are followed singly: that finds the same faults, and meets fewer places.
     Places, looks and choices of steps are numbered, and what is worked out for them is kept.
     """

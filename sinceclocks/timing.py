@@ -14,12 +14,14 @@ def spaces(entry, m, grain):
 
 
 def rules_of(way, letters, m, grain):
-    """Rules (i, j, ticks): number j comes at least so many ticks behind number i, the begin being number 0."""
+    """Rules (i, j, ticks): number j comes at least so many ticks behind number i, the begin being number 0.
+
+    One of the entries tells of the event just ahead, so that each event comes behind it or at its time.
+    """
     rules = []
     last = {"": 0}
     for k, (moment, a) in enumerate(way):
         here = k + 1
-        rules.append((k, here, 0))
         for x, entry in zip(["", *letters], moment):
             if entry is not None:
                 least, most = spaces(entry, m, grain)

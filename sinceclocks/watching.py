@@ -34,9 +34,9 @@ def windows(machine, row, a):
     if not is_letter(a):
         raise NoLetter("a is not a letter")
     futures = Futures(machine)
-    if a not in machine[0] or not futures.has_letters_of(row):
-        return []
     states, _ = futures.place(row)
+    if a not in machine[0] or not states:
+        return []
     stretches, joined = [], False
     for (least, most), moment in futures.waits(row):
         behind, here = futures.behind(states, moment, a)
@@ -54,10 +54,10 @@ def silence(machine, row):
     check_machine(machine)
     check_row(row)
     futures = Futures(machine)
-    if not futures.has_letters_of(row):
+    states, _ = futures.place(row)
+    if not states:
         return ((0, False), "no")
     let = lets(machine, row)
-    states, _ = futures.place(row)
     first = None
     for (least, _), moment in futures.waits(row)[::-1]:
         if not is_sure_at(futures, states, moment, let):

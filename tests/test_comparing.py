@@ -3,7 +3,7 @@
 import random
 import unittest
 
-from drawing import changed_machine, cycle, drawn_machine, register, wide_machine
+from drawing import changed_machine, cycle, drawn_limit, drawn_machine, register, wide_machine
 from samples import SOON, WIDE, anything, filled, spoiled
 from words import Slow, fine_rows, greatest_by_words, lets_by_words, letters_by_words
 
@@ -82,6 +82,8 @@ class FirstRowTest(RowsTest):
         self.check_first(WIDE, 0)
         self.check_first(chain("aba", (), (), ()), 3)
         self.check_first(cycle(4, (3,)), 3)
+        # without limits there is nothing to wait for
+        self.assertEqual(first_row(cycle(3, (2,)))[1][1][1], 0)
 
     def test_row_without_events(self):
         for machine in [ALL, ("c", 1, (0,), (0,), ()), ("a", 2, (0, 1), (1,), ())]:
@@ -135,6 +137,33 @@ class FirstRowTest(RowsTest):
         self.check_first(machine, 3)
         machine = chain("abab", (), (since("a", "2!"),), (since("a", "2!"), since("b", "0!", "1!")), (since("b", "2"),))
         self.check_first(machine, 4)
+
+    def test_times_that_later_letters_force(self):
+        # the a comes as late as the b needs it
+        self.assertEqual(first_row(chain("ab", (since("", "1!", "2!"),), (since("", "2!"), since("a", "0", "1!")))),
+                         (3, (("a", 5), ("b", 7))))
+        self.assertEqual(first_row(chain("ab", (since("", "0!", "1!"),), (since("", "1!"), since("a", "0", "1!")))),
+                         (3, (("a", 2), ("b", 4))))
+        late = chain("abc", (since("", "0!", "1!"),), (since("", "1!", "2!"), since("a", "0!", "1!")),
+                     (since("", "2!"), since("b", "0", "1!")))
+        self.assertEqual(first_row(late), (4, (("a", 3), ("b", 6), ("c", 9))))
+        for count in range(2, 7):
+            # each letter within a unit of the one ahead, but the last one behind so many units
+            word = "ab" * count
+            limits = [(since("ba"[k % 2], "0!", "1!"),) if k else (since("", "0!", "1!"),) for k in range(2 * count)]
+            limits[-1] += (since("", str(count + 1) + "!"),)
+            self.check_first(chain(word, *limits), 2 * count)
+
+    def test_chains(self):
+        draw = random.Random(10)
+        counts = []
+        for _ in range(120):
+            word = draw.choice(["aa", "ab", "aba", "abb", "aab", "abab"])
+            machine = chain(word, *[tuple(drawn_limit(draw, word[:k]) for _ in range(draw.choice([0, 1, 1, 2])))
+                                    for k in range(len(word))])
+            counts.append(Slow(machine).least([(True,)]))
+            self.check_first(machine, counts[-1])
+        self.assertTrue({None, 2, 3, 4} <= set(counts), set(counts))
 
     def test_great_numbers(self):
         self.check_first(chain("ab", (), (since("a", "9!"), since("", "9", "9"))), None)

@@ -62,8 +62,8 @@ class HowManyTest(unittest.TestCase):
 
     def test_rows_count_once(self):
         # however many ways there are to let a row
-        self.assertEqual(how_many(("a", 2, (0, 1), (0, 1), ((0, "a", (), 0), (0, "a", (), 1), (1, "a", (), 1)) * 2), 3, 2),
-                         how_many(A, 3, 2))
+        many = ("a", 2, (0, 1), (0, 1), ((0, "a", (), 0), (0, "a", (), 1), (1, "a", (), 1)) * 2)
+        self.assertEqual(how_many(many, 3, 2), how_many(A, 3, 2))
         self.assertEqual(how_many(either(SPACED, SPACED), 3, 5), how_many(SPACED, 3, 5))
 
     def test_limits_with_great_numbers(self):

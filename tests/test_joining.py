@@ -49,13 +49,15 @@ class IsSingleTest(unittest.TestCase):
 
     def test_stretches_that_touch(self):
         for text, other, wanted in [
-                (((0, False), (1, False)), ((1, False), None), False), (((0, False), (1, True)), ((1, False), None), True),
+                (((0, False), (1, False)), ((1, False), None), False),
+                (((0, False), (1, True)), ((1, False), None), True),
                 (((0, False), (1, False)), ((1, True), None), True), (((0, False), (1, True)), ((1, True), None), True),
                 (((1, False), (1, False)), ((1, True), (2, False)), True),
                 (((1, False), (1, False)), ((0, True), (2, True)), False),
                 (((0, True), (1, True)), ((0, True), (1, True)), False),
                 (((0, True), (1, True)), ((0, False), (0, False)), True),
-                (((2, True), None), ((0, False), (2, False)), True), (((2, False), None), ((0, False), (2, False)), False),
+                (((2, True), None), ((0, False), (2, False)), True),
+                (((2, False), None), ((0, False), (2, False)), False),
                 (((0, False), None), ((0, False), None), False)]:
             for x in ["", "a", "b"]:
                 with self.subTest((x, text, other)):
@@ -75,14 +77,15 @@ class IsSingleTest(unittest.TestCase):
                       ("a", (0, False), (0, True)), ("", (0, False), (0, True)), ("", (2, False), (1, False))]:
             self.assertIs(is_single(two_steps(limit, limit)), True, limit)
             self.assertIs(is_single(two_steps(limit, ("a", (0, False), None))), True, limit)
-        self.assertIs(is_single(("a", 1, (0,), (), ((0, "a", (), 0), (0, "a", (("a", None, None), ("a", (0, False), None)), 0)))),
-                      True)
+        never = (0, "a", (("a", None, None), ("a", (0, False), None)), 0)
+        self.assertIs(is_single(("a", 1, (0,), (), ((0, "a", (), 0), never))), True)
         open_one = (0, "a", (("a", (0, True), (1, True)),), 0)
         self.assertIs(is_single(("a", 1, (0,), (), (open_one, open_one))), False)
 
     def test_times_alone_count(self):
         # the begin never comes behind the a, but a reading may tell so
-        machine = ("a", 1, (0,), (0,), ((0, "a", (("", (0, False), (1, True)),), 0), (0, "a", (("a", (1, False), None),), 0)))
+        machine = ("a", 1, (0,), (0,), ((0, "a", (("", (0, False), (1, True)),), 0),
+                                        (0, "a", (("a", (1, False), None),), 0)))
         self.assertIs(is_single(machine), False)
         # nor was the begin ever 0 units ago and a yet longer
         self.assertIs(is_single(two_steps(("", (0, False), (0, False)), ("a", (2, True), None))), False)
@@ -110,7 +113,8 @@ class IsSingleTest(unittest.TestCase):
         self.assertIs(is_single(("a", 1, (0,), (), steps)), True)
         for k in range(20):
             for more in [(k, False), (k, True)]:
-                self.assertIs(is_single(("a", 1, (0,), (), steps + ((0, "a", (("a", more, (k + 1, True)),), 0),))), False)
+                self.assertIs(is_single(("a", 1, (0,), (), steps + ((0, "a", (("a", more, (k + 1, True)),), 0),))),
+                              False)
 
     def test_as_readings_tell(self):
         draw = random.Random(31)
@@ -192,6 +196,18 @@ class SingleTest(unittest.TestCase):
             self.assertIsNone(parted(single(machine), machine))
             self.assertIsNone(parted(turned(turned(machine)), machine))
 
+    def test_few_steps(self):
+        # stretches that touch and lead to one state are told in one step
+        parts = [("a", (k // 2, k % 2 == 1), None if k == 5 else ((k + 1) // 2, k % 2 == 1)) for k in range(6)]
+        steps = tuple((0, "a", (limit,), k // 3) for k, limit in enumerate(parts))
+        machine = ("ab", 2, (0, 1), (1,), steps + steps[:1] + ((0, "a", (("a", None, None),), 0),))
+        self.assertEqual(len(single(machine)[4]), 6)
+        self.assertEqual(single(machine)[1], 3)
+        self.assertIsNone(parted(single(machine), machine))
+        # a limit that is always met needs no steps of its own
+        always = ("ab", 2, (0,), (1,), ((0, "a", (), 1), (0, "a", (("b", (1, False), None),), 1)))
+        self.assertEqual(single(always)[4], ((0, "a", (), 1),))
+
     def test_numbers_are_no_greater(self):
         for machine in drawn_machines(36, 60):
             for told in [single(machine), turned(machine)]:
@@ -215,7 +231,8 @@ class JoinedTest(unittest.TestCase):
             self.check_rows(other, one)
 
     def test_other_letters(self):
-        only = {letters: (letters, 1, (0,), (0,), tuple((0, a, (), 0) for a in letters)) for letters in ["a", "b", "bc"]}
+        only = {letters: (letters, 1, (0,), (0,), tuple((0, a, (), 0) for a in letters))
+                for letters in ["a", "b", "bc"]}
         self.check_rows(only["a"], only["b"])
         self.check_rows(only["bc"], only["b"])
         self.check_rows(only["a"], only["bc"])
@@ -240,8 +257,8 @@ class JoinedTest(unittest.TestCase):
     def test_limits_of_both_hold_together(self):
         # between the two limits lies one moment, or none
         for least, most in [((1, False), (1, False)), ((1, True), (1, False)), ((1, False), (1, True))]:
-            one, other = two_steps(("a", least, None), ("a", None, None)), two_steps(("a", (0, False), most), ("a", None, None))
-            self.check_rows(one, other)
+            never = ("a", None, None)
+            self.check_rows(two_steps(("a", least, None), never), two_steps(("a", (0, False), most), never))
 
     def test_rows(self):
         draw = random.Random(37)
@@ -308,7 +325,8 @@ class OwnershipTest(unittest.TestCase):
     def test_arguments_are_as_before_and_results_equal(self):
         told = repr((WIDE, SOON))
         first = [single(WIDE), turned(WIDE), both(WIDE, SOON), either(WIDE, SOON), is_single(WIDE)]
-        self.assertEqual(repr([single(WIDE), turned(WIDE), both(WIDE, SOON), either(WIDE, SOON), is_single(WIDE)]), repr(first))
+        self.assertEqual(repr([single(WIDE), turned(WIDE), both(WIDE, SOON), either(WIDE, SOON), is_single(WIDE)]),
+                         repr(first))
         self.assertEqual(repr((WIDE, SOON)), told)
 
     def test_by_names(self):

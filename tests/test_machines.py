@@ -38,14 +38,16 @@ class IsMachineTest(unittest.TestCase):
     def test_states(self):
         for many in [0, -1, True, False, None, "1", (1,)]:
             self.assertIs(is_machine(("a", many, (), (), ())), False)
-        for states in [(2,), (3,), (10 ** 29,), (-1,), (1, 0), (0, 0), (0, 1, 1), (0, 2), [0], (False,), (0, True), (None,), None, 0, "0"]:
+        for states in [(2,), (3,), (10 ** 29,), (-1,), (1, 0), (0, 0), (0, 1, 1), (0, 2), [0], (False,), (0, True),
+                       (None,), None, 0, "0"]:
             with self.subTest(states):
                 self.assertIs(is_machine(("a", 2, states, (), ())), False)
                 self.assertIs(is_machine(("a", 2, (), states, ())), False)
 
     def test_steps(self):
-        for step in [(2, "a", (), 0), (0, "a", (), 2), (5, "a", (), 0), (0, "a", (), 7), (-1, "a", (), 0), (0, "b", (), 0), (0, "", (), 0),
-                     (0, "aa", (), 0), (0, "a", [], 0), (0, "a", None, 0), (0, "a", ()), (0, "a", (), 0, 0), (),
+        for step in [(2, "a", (), 0), (0, "a", (), 2), (5, "a", (), 0), (0, "a", (), 7), (-1, "a", (), 0),
+                     (0, "b", (), 0), (0, "", (), 0), (0, "aa", (), 0), (0, "a", [], 0),
+                     (0, "a", None, 0), (0, "a", ()), (0, "a", (), 0, 0), (),
                      [0, "a", (), 0], (False, "a", (), 0), (0, "a", (), True), (0, "a", (None,), 0), None, "a", 0]:
             with self.subTest(step):
                 self.assertIs(is_machine(("a", 2, (0,), (1,), (step,))), False)

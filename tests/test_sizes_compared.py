@@ -26,14 +26,16 @@ ALPHABET = "abcdefghijklmnopqrstuvwxyz"
 
 def largest_machine(draw):
     """Four states, ten steps, three limits each."""
-    steps = tuple((draw.randrange(4), draw.choice("ab"), tuple(wide_limit(draw, "ab") for _ in range(3)), draw.randrange(4))
+    steps = tuple((draw.randrange(4), draw.choice("ab"), tuple(wide_limit(draw, "ab") for _ in range(3)),
+                   draw.randrange(4))
                   for _ in range(10))
     return ("ab", 4, (0, 1, 2, 3), (draw.randrange(4),), steps)
 
 
 def free_machine(draw):
     """Four states and ten steps, so few of them with limits that most states go together."""
-    steps = tuple((k % 4, "ab"[k // 4 % 2], (wide_limit(draw, "ab"),) if k > 4 else (), draw.randrange(4)) for k in range(10))
+    steps = tuple((k % 4, "ab"[k // 4 % 2], (wide_limit(draw, "ab"),) if k > 4 else (),
+                   draw.randrange(4)) for k in range(10))
     return ("ab", 4, (0,), (0, 1, 2), steps)
 
 
@@ -132,7 +134,8 @@ class SizesTest(unittest.TestCase):
         kind, table = compared(EIGHT, EIGHT)
         for k in range(0, len(table), 40):
             ones, others, here = table[k]
-            for bent in [(ones, (), here), (ones, others, here[::-1]), (ones, others, here + (None,)), (ones, here), None]:
+            for bent in [(ones, (), here), (ones, others, here[::-1]), (ones, others, here + (None,)), (ones, here),
+                         None]:
                 if bent == table[k]:
                     continue
                 self.assertIs(is_table(EIGHT, EIGHT, table[:k] + [bent] + table[k + 1:]), False)
@@ -141,15 +144,18 @@ class SizesTest(unittest.TestCase):
 
     def test_is_single_of_the_most_steps(self):
         steps = tuple((k % 20, ALPHABET[k % 26], ((ALPHABET[k * 7 % 26], (k, False), (1000, k % 2 == 0)),
-                                                  ("", (1000 - k, True), None), (ALPHABET[k % 5], None, None)), k * 3 % 20)
+                                                  ("", (1000 - k, True), None), (ALPHABET[k % 5], None, None)),
+                       k * 3 % 20)
                       for k in range(60))
         for k in range(20):
             self.assertIs(is_single((ALPHABET, 20, (k,), (), steps)), True)
         self.assertIs(is_single((ALPHABET, 20, (3,), (), steps[:59] + (steps[1],))), False)
         apart = tuple((0, "a", (("a", (k, False), (k + 1, True)),), 0) for k in range(60))
         self.assertIs(is_single((ALPHABET, 20, (3,), (), apart)), True)
-        parts = [("a", None, None)] + [("a", (k // 2, k % 2 == 1), None if k == 5 else ((k + 1) // 2, k % 2 == 1)) for k in range(6)]
-        cells = [(a, (a[:1] and ("b",) + b[1:]), ("",) + begin[1:]) for a in parts for b in parts for begin in parts[1:]]
+        parts = [(None, None)] + [((k // 2, k % 2 == 1), None if k == 5 else ((k + 1) // 2, k % 2 == 1))
+                                  for k in range(6)]
+        cells = [(("a",) + some, ("b",) + other, ("",) + begin)
+                 for some in parts for other in parts for begin in parts[1:]]
         machine = ("ab", 1, (0,), (0,), tuple((0, "a", cell, 0) for cell in cells))
         self.assertEqual(len(cells), 294)
         self.assertIs(is_single(machine), True)
@@ -166,7 +172,8 @@ class SizesTest(unittest.TestCase):
 
     def test_watching(self):
         rows = [(100, tuple(("ab"[k * k % 3 % 2], 70 * k) for k in range(20))),
-                (1, tuple(("ab"[k % 2], k // 4) for k in range(20))), (100, tuple(("ab"[k % 5 > 2], 33 * k) for k in range(20)))]
+                (1, tuple(("ab"[k % 2], k // 4) for k in range(20))),
+                (100, tuple(("ab"[k % 5 > 2], 33 * k) for k in range(20)))]
         draw = random.Random(85)
         machines = [SOON, MIDST, LATE, EIGHT, single(LATE), turned(SOON), turned(EIGHT), gate(draw)]
         for machine in machines + [free_machine(draw) for _ in range(4)]:

@@ -43,6 +43,17 @@ class ComparedTest(unittest.TestCase):
         self.assertEqual(compared(NONE, ("c", 1, (), (), ())), ("within", [((), (), ((0, 0), None, None, None))]))
         self.assertEqual(compared(ALL, NONE), ("row", (1, ())))
 
+    def test_no_limits(self):
+        # m is 0: an entry tells alone whether the letter came just now
+        one = ("a", 1, (0,), (0,), ((0, "a", (), 0),))
+        kind, table = compared(one, one)
+        self.assertEqual(kind, "within")
+        self.assertEqual({here for _, _, here in table}, {BEGIN, ((0, 0), (0, 0)), ((1, 0), (0, 0))})
+        self.assertEqual({(ones, others) for ones, others, _ in table}, {((0,), (0,))})
+        for here, wanted in [(((1, 0), None), True), (((1, 0), (1, 0)), True), (((0, 1), None), False),
+                             (((2, 0), None), False)]:
+            self.assertIs(is_table(one, one, table + [((0,), (0,), here)]), wanted)
+
     def test_rows_that_no_other_letter_goes_on(self):
         # b and c are no letters of both; where one goes on by b, other is nowhere
         one = ("ab", 2, (0,), (0,), ((0, "a", (), 0), (0, "b", (), 1)))

@@ -60,8 +60,9 @@ class WindowsTest(unittest.TestCase):
         self.assertEqual(windows(ALL, (1, (("a", 0), ("z", 1))), "a"), [])
 
     def test_edges(self):
-        for stretch in [((0, False), (1, False)), ((0, True), (1, False)), ((1, False), (2, True)), ((1, True), (2, False)),
-                        ((0, False), (0, False)), ((1, False), (1, False)), ((2, False), (2, False)), ((0, True), (1, True)),
+        for stretch in [((0, False), (1, False)), ((0, True), (1, False)), ((1, False), (2, True)),
+                        ((1, True), (2, False)), ((0, False), (0, False)), ((1, False), (1, False)),
+                        ((2, False), (2, False)), ((0, True), (1, True)),
                         ((1, True), (2, True)), ((2, True), None), ((1, False), None), ((0, True), None)]:
             (low, sharp), most = stretch
             for grain in [1, 3]:
@@ -77,7 +78,8 @@ class WindowsTest(unittest.TestCase):
                   [((1, False), None), ((0, False), (2, True))]]
         for stretches in joined:
             self.assertEqual(windows(waiting(*stretches), (5, ()), "a"), ALWAYS)
-        self.assertEqual(windows(waiting(((0, False), (1, True)), ((1, True), (2, True)), ((2, True), None)), (5, ()), "a"),
+        parted = waiting(((0, False), (1, True)), ((1, True), (2, True)), ((2, True), None))
+        self.assertEqual(windows(parted, (5, ()), "a"),
                          [((0, False), (5, True)), ((5, True), (10, True)), ((10, True), None)])
         self.assertEqual(windows(waiting(((1, False), (1, False)), ((2, False), (2, False))), (5, ()), "a"),
                          [((5, False), (5, False)), ((10, False), (10, False))])
@@ -85,10 +87,12 @@ class WindowsTest(unittest.TestCase):
     def test_behind_events(self):
         # seven ticks behind the begin
         row = (4, (("a", 1), ("b", 3), ("a", 7)))
-        machine = ("ab", 1, (0,), (0,), ((0, "a", (("b", (1, False), (2, True)),), 0), (0, "b", (("", (2, True), None),), 0)))
+        machine = ("ab", 1, (0,), (0,), ((0, "a", (("b", (1, False), (2, True)),), 0),
+                                         (0, "b", (("", (2, True), None),), 0)))
         self.assertEqual(windows(machine, (4, ()), "b"), [((8, True), None)])
         self.assertEqual(windows(machine, row, "a"), [])
-        free = ("ab", 2, (1,), (0, 1), machine[4] + ((1, "a", (), 1), (1, "b", (), 1), (1, "a", (("b", (1, False), None),), 0)))
+        free = ("ab", 2, (1,), (0, 1), machine[4] + ((1, "a", (), 1), (1, "b", (), 1),
+                                                     (1, "a", (("b", (1, False), None),), 0)))
         self.assertEqual(windows(free, row, "b"), ALWAYS)
         last = ("ab", 2, (0,), (1,), ((0, "a", (), 0), (0, "b", (), 0), (0, "a", (("b", (1, False), (2, True)),), 1)))
         # the end is one a more; the a may come whenever, but then only another one behind a b
@@ -104,7 +108,8 @@ class WindowsTest(unittest.TestCase):
 
     def test_what_comes_behind_the_letter_counts(self):
         # behind the a a b must come within the first unit, and later than the a
-        machine = ("ab", 3, (0,), (2,), ((0, "a", (), 1), (1, "b", (("a", (0, True), None), ("", (0, False), (1, True))), 2)))
+        machine = ("ab", 3, (0,), (2,), (
+            (0, "a", (), 1), (1, "b", (("a", (0, True), None), ("", (0, False), (1, True))), 2)))
         self.assertEqual(windows(machine, (3, ()), "a"), [((0, False), (3, True))])
         self.assertEqual(windows(machine, (3, ()), "b"), [])
         self.assertEqual(windows(machine, (3, (("a", 1),)), "b"), [((0, True), (2, True))])
@@ -118,7 +123,8 @@ class WindowsTest(unittest.TestCase):
             row = drawn_row(draw, machine[0] * 6 + "abc", 3)
             if k % 3 == 1:
                 first = draw.randrange(3)
-                row = (draw.choice([2, 3]), ((draw.choice(letters), first), (draw.choice(letters), first + draw.randrange(2))))
+                row = (draw.choice([2, 3]), ((draw.choice(letters), first),
+                                             (draw.choice(letters), first + draw.randrange(2))))
             if verdict(machine, row) != "open" and k % 10:
                 continue
             slow = Slow(machine)
@@ -128,7 +134,8 @@ class WindowsTest(unittest.TestCase):
                 counts[len(told)] = counts.get(len(told), 0) + 1
                 for halves in all_halves(row, machine):
                     hopeful = verdict_by_words(slow, with_letter(row, a, halves)) != "no"
-                    self.assertIs(any(is_in(halves, stretch) for stretch in told), hopeful, (machine, row, a, halves, told))
+                    self.assertIs(any(is_in(halves, stretch) for stretch in told), hopeful,
+                                  (machine, row, a, halves, told))
         self.assertTrue({0, 1, 2, 3} <= set(counts), counts)
 
     def check_form(self, told):
@@ -137,7 +144,8 @@ class WindowsTest(unittest.TestCase):
         for (low, sharp), most in told:
             self.assertTrue(most is None or low < most[0] or (low == most[0] and not sharp and not most[1]), told)
         for (_, most), (least, _) in zip(told, told[1:]):
-            self.assertTrue(most is not None and (most[0] < least[0] or (most[0] == least[0] and most[1] and least[1])), told)
+            self.assertIsNotNone(most)
+            self.assertTrue(most[0] < least[0] or (most[0] == least[0] and most[1] and least[1]), told)
 
     def test_finer_grain(self):
         draw = random.Random(72)
@@ -168,8 +176,8 @@ class SilenceTest(unittest.TestCase):
 
     def test_from_a_wait_on(self):
         # an a is let from one unit behind the begin on, or only behind it; or none any more
-        for least, wanted in [((1, False), (3, False)), ((1, True), (3, True)), ((0, True), (0, True)), ((2, False), (6, False)),
-                              ((2, True), (6, True)), ((0, False), (0, False))]:
+        for least, wanted in [((1, False), (3, False)), ((1, True), (3, True)), ((0, True), (0, True)),
+                              ((2, False), (6, False)), ((2, True), (6, True)), ((0, False), (0, False))]:
             machine = ("a", 2, (0,), (0, 1), ((0, "a", (("", least, None),), 1), (1, "a", (), 1)))
             self.assertEqual(silence(machine, (3, ())), (wanted, "yes"))
             self.assertEqual(silence(turned(machine), (3, ())), (wanted, "no"))
@@ -189,9 +197,10 @@ class SilenceTest(unittest.TestCase):
         self.assertIsNone(silence(late, (5, ())))
         self.assertEqual(silence(turned(late), (5, (("b", 3),))), ((5, False), "yes"))
         # what is sure between two letters' whole units
-        two = ("ab", 2, (0,), (1,), ((0, "a", (), 0), (0, "b", (("", (1, False), None), ("a", (0, False), (1, False))), 1)))
+        limits = (("", (1, False), None), ("a", (0, False), (1, False)))
+        two = ("ab", 2, (0,), (1,), ((0, "a", (), 0), (0, "b", limits, 1)))
         self.assertEqual(silence(two, (5, (("a", 2),))), None)
-        once = ("ab", 3, (0,), (2,), ((0, "a", (), 1), (1, "b", (("", (1, False), None), ("a", (0, False), (1, False))), 2)))
+        once = ("ab", 3, (0,), (2,), ((0, "a", (), 1), (1, "b", limits, 2)))
         self.assertEqual(silence(once, (5, (("a", 2),))), ((5, True), "no"))
         self.assertEqual(windows(once, (5, (("a", 2),)), "b"), [((3, False), (5, False))])
 
@@ -318,7 +327,8 @@ class OwnershipTest(unittest.TestCase):
 
     def test_arguments_are_as_before_and_results_equal(self):
         told = repr((WIDE, FINE))
-        self.assertEqual(repr([windows(WIDE, FINE, "a"), silence(WIDE, FINE)]), repr([windows(WIDE, FINE, "a"), silence(WIDE, FINE)]))
+        self.assertEqual(repr([windows(WIDE, FINE, "a"), silence(WIDE, FINE)]),
+                         repr([windows(WIDE, FINE, "a"), silence(WIDE, FINE)]))
         self.assertEqual(repr((WIDE, FINE)), told)
 
     def test_by_names(self):

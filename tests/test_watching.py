@@ -57,7 +57,8 @@ class VerdictTest(unittest.TestCase):
 
     def test_at_a_whole_number_and_just_behind(self):
         # until two units behind the begin an a leads to the end
-        machine = ("a", 2, (0,), (1,), ((0, "a", (("", (0, False), (2, False)),), 1), (0, "a", (("", (0, False), None),), 0),
+        machine = ("a", 2, (0,), (1,), ((0, "a", (("", (0, False), (2, False)),), 1),
+                                        (0, "a", (("", (0, False), None),), 0),
                                         (1, "a", (), 1)))
         self.assertEqual([verdict(machine, (1, (("a", time),))) for time in range(4)], ["yes", "yes", "yes", "no"])
         self.assertEqual(verdict(machine, (10, (("a", 20),))), "yes")
@@ -69,7 +70,8 @@ class VerdictTest(unittest.TestCase):
 
     def test_between_two_ticks(self):
         # an a must come later than the first one, but within its unit
-        machine = ("a", 3, (0,), (2,), ((0, "a", (), 1), (1, "a", (("a", (0, True), None), ("", (0, False), (1, True))), 2)))
+        machine = ("a", 3, (0,), (2,), (
+            (0, "a", (), 1), (1, "a", (("a", (0, True), None), ("", (0, False), (1, True))), 2)))
         self.assertEqual(verdict(machine, (1, (("a", 0),))), "open")
         self.assertEqual(verdict(machine, (2, (("a", 1),))), "open")
         self.assertEqual(verdict(machine, (1, (("a", 1),))), "no")
@@ -101,7 +103,8 @@ class VerdictTest(unittest.TestCase):
 
     def test_states_together_let_all(self):
         # which of them lets a row hangs on the time of the next letter
-        machine = ("a", 3, (0, 1), (0, 1, 2), ((0, "a", (("", (0, False), (1, False)),), 2), (1, "a", (("", (1, True), None),), 2),
+        machine = ("a", 3, (0, 1), (0, 1, 2), ((0, "a", (("", (0, False), (1, False)),), 2),
+                                               (1, "a", (("", (1, True), None),), 2),
                                             (2, "a", (), 2)))
         self.assertEqual(verdict(machine, (1, ())), "yes")
         self.assertEqual(verdict(machine[:2] + ((0,),) + machine[3:], (1, ())), "open")
