@@ -14,6 +14,14 @@ def last_spot(m):
     return 2 * m + 1
 
 
+def spot_of(ticks, grain, m):
+    """The spot of so many ticks, for limits that name at most m units."""
+    if ticks > m * grain:
+        return last_spot(m)
+    units, rest = divmod(ticks, grain)
+    return 2 * units + (1 if rest > 0 else 0)
+
+
 def range_of(limit, last):
     """The spots at which the limit holds; if the range ends ahead of its first spot, it never does."""
     _, least, most = limit

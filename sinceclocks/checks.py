@@ -1,6 +1,6 @@
 """What the other files ask of numbers, letters and tuples that are handed in."""
 
-from sinceclocks.errors import NoBound, NoLetters
+from sinceclocks.errors import NoBound, NoLetter, NoLetters
 
 
 def is_number(thing, least):
@@ -30,6 +30,12 @@ def is_letters(thing):
     if not isinstance(thing, str) or thing == "":
         return False
     return all([is_letter(sign) for sign in thing]) and list(thing) == sorted(set(thing))
+
+
+def check_letter(a):
+    """Raises NoLetter if a is not a letter."""
+    if not is_letter(a):
+        raise NoLetter("a is not a letter")
 
 
 def check_letters(letters):

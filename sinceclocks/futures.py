@@ -1,9 +1,9 @@
 """What can still come behind a row."""
 
 from sinceclocks.looks import came, later, look
-from sinceclocks.machines import after
-from sinceclocks.pairs import Pair, search
-from sinceclocks.rows import last_times
+from sinceclocks.machines import states_behind, steps_by_place
+from sinceclocks.pairs import Pair, leads_to_fault
+from sinceclocks.rows import end_of, last_times
 
 
 class Futures:
@@ -14,19 +14,18 @@ class Futures:
         none = (letters, 1, (), (), ())
         all_rows = (letters, 1, (0,), (0,), tuple([(0, a, (), 0) for a in letters]))
         self.machine = machine
+        self.table = steps_by_place(machine)
         self.letting = Pair(machine, none, True)
         self.failing = Pair(all_rows, machine, True)
         self.m = self.letting.m
 
     def can_let(self, states, here):
         """Whether a row is let that goes on from these states at the look, or ends there."""
-        way, _ = search(self.letting, self.letting.nodes(states, (), here))
-        return way is not None
+        return leads_to_fault(self.letting, self.letting.nodes(states, (), here))
 
     def can_fail(self, states, here):
         """Whether a row is not let that goes on from these states at the look, or ends there."""
-        way, _ = search(self.failing, self.failing.nodes((0,), states, here))
-        return way is not None
+        return leads_to_fault(self.failing, self.failing.nodes((0,), states, here))
 
     def is_sure(self, states, here, let):
         """Whether all rows are let, or none if let is False, that go on from these states at the look, or end there."""
@@ -34,11 +33,16 @@ class Futures:
 
     def place(self, row):
         """The states behind the row, none if some event has another letter, and the look there."""
-        return tuple(after(self.machine, row)), look(row, self.machine[0], self.m)
+        return tuple(states_behind(self.machine, self.table, row)), look(row, self.machine[0], self.m)
 
     def behind(self, states, moment, a):
         """The states and the look behind the letter a of the machine that comes at the moment."""
         return self.letting.one.go(states, moment, a), came(moment, self.machine[0], a)
+
+    def has_hope(self, row):
+        """Whether the verdict of the row is not "no"."""
+        states, here = self.place(row)
+        return self.can_let(states, here)
 
     def verdict(self, row):
         """The verdict of the row."""
@@ -64,6 +68,6 @@ class Futures:
 def changes(row, m):
     """The waits, in ticks, ascending, at which the begin or a letter of the row is just 0 to m units ago."""
     grain, events = row
-    now = events[-1][1] if events else 0
+    now = end_of(events)
     moments = [time + units * grain for time in last_times(events).values() for units in range(m + 1)]
     return sorted({moment - now for moment in moments if moment >= now})

@@ -2,7 +2,7 @@
 
 from sinceclocks.checks import check_bound, check_letters, is_letter_of, is_number, is_tuple
 from sinceclocks.errors import NoLetter, NoLook
-from sinceclocks.rows import check_row, last_times
+from sinceclocks.rows import check_row, end_of, last_times
 
 # one for the begin, and one for each letter from a to z
 MOST_ENTRIES = 27
@@ -51,7 +51,7 @@ def look(row, letters, m):
     check_bound(m)
     grain, events = row
     times = last_times(events)
-    now = events[-1][1] if events else 0
+    now = end_of(events)
     names = ["", *letters]
     return ranked([seen(now - times[x], grain, m) if x in times else None for x in names])
 

@@ -85,7 +85,10 @@ def keeps(ago, most):
 
 def all_hold(limits, agos):
     """Whether all limits hold; agos tells by letter how long ago each one came that has come."""
-    return all([holds(limit, agos.get(limit[0])) for limit in limits])
+    for limit in limits:
+        if not holds(limit, agos.get(limit[0])):
+            return False
+    return True
 
 
 def steps_by_place(machine):
@@ -105,8 +108,12 @@ def after(machine, row):
     """The states, ascending, in which the machine can be behind the row."""
     check_machine(machine)
     check_row(row)
+    return states_behind(machine, steps_by_place(machine), row)
+
+
+def states_behind(machine, table, row):
+    """The states, ascending, in which the machine can be behind the row; table as of steps_by_place."""
     grain, events = row
-    table = steps_by_place(machine)
     states = list(machine[2])
     times = {"": 0}
     for letter, time in events:
@@ -118,5 +125,9 @@ def after(machine, row):
 
 def lets(machine, row):
     """Whether the machine can be in one of its ends behind the row."""
-    states = after(machine, row)
+    return has_end(machine, after(machine, row))
+
+
+def has_end(machine, states):
+    """Whether one of the states is an end of the machine."""
     return len(set(states) & set(machine[3])) > 0

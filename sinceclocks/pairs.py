@@ -20,7 +20,7 @@ class Pair:
         self.one_ends, self.other_ends = one[3], other[3]
         self.apart = apart
         self.places, self.looks, self.choices = Numbers(), Numbers(), Numbers()
-        self.kept_faults, self.kept_moves, self.kept_ways = {}, {}, {}
+        self.kept_faults, self.kept_moves, self.kept_ways, self.barren = {}, {}, {}, {}
 
     def nodes(self, ones, others, here):
         """The places with these states, each beside the look, as numbers."""
@@ -93,6 +93,19 @@ def search(pair, nodes):
                     back[(place, behind)] = (node, move)
                     line.append((place, behind))
     return None, line
+
+
+def leads_to_fault(pair, nodes):
+    """Whether a way leads from the nodes to a fault.
+
+    Nodes that lead to none are kept, so that rows that go on and on do not search the same again and again.
+    """
+    fresh = [node for node in nodes if node not in pair.barren]
+    way, met = search(pair, fresh)
+    if way is None:
+        for node in met:
+            pair.barren[node] = True
+    return way is not None
 
 
 def way_to(node, back):

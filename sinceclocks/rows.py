@@ -1,7 +1,7 @@
 """Timed rows: letters with exact times, a grain of ticks to the unit."""
 
 from sinceclocks.checks import is_letter, is_number, is_tuple
-from sinceclocks.errors import NoLetter, NoNumber, NoRow
+from sinceclocks.errors import NoLetter, NoNumber, NoRow, NoTold
 
 
 def is_row(thing):
@@ -25,6 +25,22 @@ def check_row(row):
     """Raises NoRow if row is not a timed row."""
     if not is_row(row):
         raise NoRow("not a timed row")
+
+
+def is_told(thing):
+    """Whether the thing is a tuple of a timed row and of whether it is to be let."""
+    return is_tuple(thing, 2) and is_row(thing[0]) and isinstance(thing[1], bool)
+
+
+def check_told(told):
+    """Raises NoTold if told is not a list or tuple of told rows."""
+    if not (isinstance(told, (list, tuple)) and all([is_told(thing) for thing in told])):
+        raise NoTold("told is not a list or tuple of told rows")
+
+
+def end_of(events):
+    """The time of the last event, or that of the begin if there is none."""
+    return events[-1][1] if events else 0
 
 
 def last_times(events):

@@ -1,7 +1,6 @@
 """Rows as they come: what is sure of a row already, and when a letter can still come."""
 
-from sinceclocks.checks import is_letter
-from sinceclocks.errors import NoLetter
+from sinceclocks.checks import check_letter
 from sinceclocks.futures import Futures
 from sinceclocks.machines import check_machine, lets
 from sinceclocks.rows import check_row
@@ -31,8 +30,7 @@ def windows(machine, row, a):
     """The stretches of waits, ascending, behind which the letter a can come so that the verdict is not "no"."""
     check_machine(machine)
     check_row(row)
-    if not is_letter(a):
-        raise NoLetter("a is not a letter")
+    check_letter(a)
     futures = Futures(machine)
     states, _ = futures.place(row)
     if a not in machine[0] or not states:

@@ -81,6 +81,14 @@ def finer(row, times):
     return (row[0] * times, tuple((letter, time * times) for letter, time in row[1]))
 
 
+def shifted(draw, row, times=4):
+    """The row in a finer grain, with some of its events a little earlier or later: often alike to it."""
+    grain, events = finer(row, times)
+    moved = [max(0, time + draw.choice([0, 0, 1, -1, times // 2])) for _, time in events]
+    moved = [max(moved[:k + 1]) for k in range(len(moved))]
+    return (grain, tuple((letter, time) for (letter, _), time in zip(events, moved)))
+
+
 def register(limits, letters="ab"):
     """A machine of the largest size that guesses an event at which the limits hold, and lets it be three from the end.
 

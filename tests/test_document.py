@@ -4,9 +4,9 @@ import doctest
 import inspect
 import unittest
 
-from sinceclocks import comparing, counting, joining, looks, machines, rows, watching
+from sinceclocks import comparing, counting, joining, looks, machines, rows, seeing, telling, texts, watch, watching
 
-EXAMPLES = '''
+EXAMPLES = r'''
 >>> from sinceclocks.machines import after, is_machine, lets
 >>> from sinceclocks.rows import is_row, since
 >>> soon = ("ab", 2, (0,), (1,), ((0, "a", (), 0), (0, "b", (("a", (0, False), (2, True)),), 1)))
@@ -47,6 +47,36 @@ EXAMPLES = '''
 >>> [verdict(early, (1, ())), verdict(early, (2, (("a", 3),))), decided(early, (2, (("a", 1), ("a", 3))))]
 ['open', 'no', 2]
 
+>>> from sinceclocks.telling import left, next_row
+>>> early = ("a", 1, (0,), (0,), ((0, "a", (("", (0, False), (1, False)),), 0),))
+>>> spaced = ("a", 1, (0,), (0,), ((0, "a", (("a", None, None),), 0), (0, "a", (("a", (2, False), None),), 0)))
+>>> [left([early, spaced], [((1, (("a", 0), ("a", 1))), True)]), next_row([early, spaced], [])[1]]
+[[0], 1]
+
+>>> from sinceclocks.watch import Watch
+>>> early = ("a", 1, (0,), (0,), ((0, "a", (("", (0, False), (1, False)),), 0),))
+>>> watch = Watch(early, 2)
+>>> [watch.come("a", 1), watch.hopes(1), watch.hopes(2), watch.come("a", 2), watch.back(), watch.row()]
+['open', ['a'], [], 'no', True, (2, (('a', 1),))]
+
+>>> from sinceclocks.texts import machine_text, read_row
+>>> early = ("a", 1, (0,), (0,), ((0, "a", (("", (0, False), (1, False)),), 0),))
+>>> [machine_text(early), read_row("grain 2\na 1")]
+['letters a\nstates 1\nstarts 0\nends 0\nstep 0 a 0 .from0to1', (2, (('a', 1),))]
+
+>>> from sinceclocks.texts import machine_text
+>>> wide = ("ab", 2, (0, 1), (), ((0, "a", (("", (0, True), None), ("b", (1, False), (2, True)), ("a", None, None)), 1),))
+>>> machine_text(wide)
+'letters ab\nstates 2\nstarts 0 1\nends\nstep 0 a 1 .over0 bfrom1under2 anever'
+
+>>> from sinceclocks.machines import lets
+>>> from sinceclocks.seeing import alike, fitting, picture
+>>> row, other = (2, (("a", 1), ("a", 4))), (3, (("a", 1), ("a", 5)))
+>>> [alike(row, row, 2), alike(row, other, 2), alike(row, other, 1), lets(picture(row, "a", 1), other)]
+[True, False, True, True]
+>>> [fitting([(row, True), (other, False)], 2)[0], fitting([(other, False), (row, True)], 1)]
+['machine', ('rows', 1, 0)]
+
 >>> from sinceclocks.watching import silence, windows
 >>> early = ("a", 1, (0,), (0,), ((0, "a", (("", (0, False), (1, False)),), 0),))
 >>> apart = ("a", 1, (0,), (0,), ((0, "a", (("a", None, None),), 0), (0, "a", (("a", (0, False), (1, True)),), 0), (0, "a", (("a", (1, True), None),), 0)))
@@ -68,16 +98,23 @@ INTERFACE = [
     (counting, "how_many", ["machine", "n", "most"]),
     (watching, "verdict", ["machine", "row"]), (watching, "decided", ["machine", "row"]),
     (watching, "windows", ["machine", "row", "a"]), (watching, "silence", ["machine", "row"]),
+    (telling, "left", ["machines", "told"]), (telling, "next_row", ["machines", "told"]),
+    (texts, "row_text", ["row"]), (texts, "machine_text", ["machine"]),
+    (texts, "read_row", ["text"]), (texts, "read_machine", ["text"]),
+    (seeing, "alike", ["row", "other", "m"]), (seeing, "picture", ["row", "letters", "m"]),
+    (seeing, "fitting", ["told", "m"]),
 ]
+METHODS = [("come", ["a", "wait"]), ("verdict", []), ("states", []), ("row", []), ("hopes", ["wait"]), ("back", [])]
+SIGNS = ["__getitem__", "__contains__", "__len__", "__iter__", "__eq__", "__ne__"]
 
 
 class DocumentTest(unittest.TestCase):
     def test_examples(self):
         examples = doctest.DocTestParser().get_doctest(EXAMPLES, {}, "DOC.md", "DOC.md", 0)
-        self.assertEqual(len(examples.examples), 31)
+        self.assertEqual(len(examples.examples), 50)
         told = []
         results = doctest.DocTestRunner(verbose=False).run(examples, out=told.append)
-        self.assertEqual((results.attempted, results.failed), (31, 0), "".join(told))
+        self.assertEqual((results.attempted, results.failed), (50, 0), "".join(told))
 
     def test_interface(self):
         for module, name, arguments in INTERFACE:
@@ -85,11 +122,24 @@ class DocumentTest(unittest.TestCase):
                 function = getattr(module, name)
                 self.assertTrue(inspect.isfunction(function))
                 self.assertEqual(function.__module__, module.__name__)
-                parameters = inspect.signature(function).parameters.values()
-                self.assertEqual([each.name for each in parameters], arguments)
-                for each in parameters:
-                    self.assertIs(each.default, each.empty)
-                    self.assertEqual(each.kind, each.POSITIONAL_OR_KEYWORD)
+                self.check_arguments(function, arguments)
+
+    def check_arguments(self, function, arguments):
+        parameters = inspect.signature(function).parameters.values()
+        self.assertEqual([each.name for each in parameters], arguments)
+        for each in parameters:
+            self.assertIs(each.default, each.empty)
+            self.assertEqual(each.kind, each.POSITIONAL_OR_KEYWORD)
+
+    def test_interface_of_the_watch(self):
+        self.assertTrue(inspect.isclass(watch.Watch))
+        self.assertEqual(watch.Watch.__module__, "sinceclocks.watch")
+        self.check_arguments(watch.Watch, ["machine", "grain"])
+        for name, arguments in METHODS:
+            with self.subTest(name):
+                self.check_arguments(vars(watch.Watch)[name], ["self"] + arguments)
+        for name in SIGNS:
+            self.assertTrue(inspect.isfunction(vars(watch.Watch)[name]), name)
 
 
 if __name__ == "__main__":

@@ -159,6 +159,50 @@ class LanguageTest(unittest.TestCase):
             if isinstance(node.func, ast.Attribute):
                 self.assertIn(node.func.attr, METHODS + own, (name, node.lineno))
 
+    def test_signs_of_objects(self):
+        """L5, L28: double-underscore methods by their one form; what they do to the rest of the package."""
+        allowed = {"__init__": None, "__len__": ["self"], "__iter__": ["self"], "__eq__": ["self", "other"],
+                   "__ne__": ["self", "other"], "__contains__": ["self", "x"], "__getitem__": ["self", "at"]}
+        for name, tree in self.trees.items():
+            inside = [part for node in ast.walk(tree) if isinstance(node, ast.ClassDef) for part in node.body]
+            for node in ast.walk(tree):
+                if isinstance(node, ast.FunctionDef) and node.name.startswith("__"):
+                    self.assertIn(node, inside, name)
+                    self.assertIn(node.name, allowed, name)
+                    self.check_sign(node, allowed[node.name], name)
+        # beside __eq__, __len__ and iteration: lists in any and all, no sort in place, no products, no try around them
+        for name, node in self.nodes((ast.GeneratorExp, ast.Try, ast.Yield, ast.YieldFrom)):
+            self.fail((name, node.lineno))
+        for name, node in self.nodes(ast.Attribute):
+            self.assertNotIn(node.attr, ["sort", "keys"], (name, node.lineno))
+        for name, node in self.nodes(ast.ImportFrom):
+            self.assertNotIn(node.module, ["itertools", "heapq"], name)
+        for name, node in self.nodes(ast.Name):
+            self.assertNotIn(node.id, ["reversed", "next", "map"], (name, node.lineno))
+
+    def check_sign(self, node, arguments, name):
+        """The arguments, and that nothing is changed but by __init__."""
+        self.assertEqual(node.decorator_list, [], name)
+        if arguments is not None:
+            self.assertEqual([each.arg for each in node.args.args], arguments, name)
+            changes = (ast.Assign, ast.AugAssign, ast.AnnAssign, ast.Delete, ast.Lambda, ast.FunctionDef)
+            for part in node.body:
+                for inner in ast.walk(part):
+                    self.assertNotIsInstance(inner, changes, (name, node.name))
+        if node.name in ("__iter__", "__len__"):
+            self.assertIsInstance(node.body[0], ast.Return)
+            self.assertEqual(node.body[0].value.func.id, node.name.strip("_"))
+
+    def test_methods_and_attributes_apart(self):
+        """L18, L26: no name is a method and an attribute, nor an attribute that builtin values have as a method."""
+        methods = [part.name for _, node in self.nodes(ast.ClassDef) for part in node.body
+                   if isinstance(part, ast.FunctionDef)]
+        attributes = [node.attr for _, node in self.nodes(ast.Attribute) if isinstance(node.ctx, ast.Store)]
+        self.assertEqual(sorted(set(methods) & set(attributes)), [])
+        barred = """items keys values pop update append clear extend insert remove reverse setdefault sort args encode
+            decode hex fromhex format format_map mro""".split()
+        self.assertEqual(sorted(set(attributes) & set(barred)), [])
+
     def test_sets(self):
         """L24: sets only behind in, beside == and !=, in sorted and len, or stored by an assignment."""
         for name, tree in self.trees.items():

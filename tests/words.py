@@ -43,6 +43,24 @@ def lets_by_words(machine, row):
     return any(state in machine[3] for state in after_by_words(machine, row))
 
 
+def spot_by_words(units, m):
+    """What machines whose numbers are at most m can tell of so many units, or None: at a number, behind one, or never."""
+    if units is None:
+        return "never"
+    if units > m:
+        return "more"
+    return ("just" if units == units // 1 else "behind", units // 1)
+
+
+def alike_by_words(row, other, m):
+    """Whether two rows are alike for m, event by event."""
+    if [a for a, _ in row[1]] != [a for a, _ in other[1]]:
+        return False
+    names = [""] + sorted({a for a, _ in row[1]})
+    return all(spot_by_words(since_by_words(row, i, x), m) == spot_by_words(since_by_words(other, i, x), m)
+               for i in range(len(row[1])) for x in names)
+
+
 def look_by_words(agos, m):
     """The look where each entry came so many units ago, or never (None)."""
     counted = [ago for ago in agos if ago is not None and ago <= m]
