@@ -135,8 +135,11 @@ class VerdictTest(unittest.TestCase):
 
     def test_as_fine_rows_tell(self):
         draw = random.Random(62)
-        for _ in range(60):
+        met = []
+        for k in range(60):
             machine, row = wide_machine(draw, "ab", 3, 6, 1), drawn_row(draw, "ab", 3, 2)
+            if k % 6 == 0:
+                machine = either(machine, turned(machine))
             grain, events = finer(row, 3)
             now = events[-1][1] if events else 0
             words = {lets(machine, row)}
@@ -147,7 +150,9 @@ class VerdictTest(unittest.TestCase):
                               for a in "ab" for b in "ab"}
             word = verdict(machine, row)
             self.assertNotEqual((word, True in words), ("no", True), (machine, row))
-            self.assertNotEqual((word, False in words), ("yes", False), (machine, row))
+            self.assertNotEqual((word, False in words), ("yes", True), (machine, row))
+            met.append(word)
+        self.assertEqual(sorted(set(met)), ["no", "open", "yes"])
 
     def test_over_the_whole(self):
         draw = random.Random(63)
